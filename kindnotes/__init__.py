@@ -1,0 +1,1 @@
+"""Kindnotes: where a program must say its kinds."""
