@@ -100,10 +100,7 @@ class Kind:
     """A kind of a stock, to be compared with others of it."""
 
     def __init__(self, stock, row):
-        if not stock.fits(row):
-            raise BadKind("the kind does not fit the stock")
-        if any([isinstance(part, str) for part in _walk(row)]):
-            raise BadKind("a kind has no letters")
+        check_kind(stock, row)
         self.stock = stock
         self.row = row
 
@@ -117,6 +114,19 @@ class Kind:
     def __and__(self, other):
         row = greatest_under(self.stock, self.row, other.row)
         return None if row is None else Kind(self.stock, row)
+
+
+def is_kind(row):
+    """Whether this is a form without letters."""
+    return is_form(row) and not any([isinstance(part, str) for part in _walk(row)])
+
+
+def check_kind(stock, row):
+    """Refuse what is no kind of the stock."""
+    if not is_kind(row):
+        raise BadKind("a kind is a form without letters")
+    if not stock.fits(row):
+        raise BadKind("the kind does not fit the stock")
 
 
 def lies_under(stock, low, high):
