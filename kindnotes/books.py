@@ -22,21 +22,16 @@ class Book:
         return self.ways.get(sign, ())
 
     def __setitem__(self, sign, ways):
-        places, _ = self.table[sign]
-        rows = tuple(list(ways))
-        for row in rows:
-            _check_way(places, row)
-        self.ways[sign] = rows
+        self.ways[sign] = _checked_ways(self.table[sign], ways)
 
     def __iadd__(self, other):
         joined = {}
         for sign in other:
-            joined[sign] = list(self[sign])
-            for row in other[sign]:
-                if row not in joined[sign]:
-                    joined[sign].append(row)
+            if other[sign]:
+                joined[sign] = _checked_ways(self.table[sign], _joined(self[sign], other[sign]))
+        # All is checked by now, so an error leaves the book as it was.
         for sign, rows in joined.items():
-            self[sign] = rows
+            self.ways[sign] = rows
         return self
 
     def __contains__(self, program):
@@ -174,6 +169,23 @@ class Guesses:
             return False
         self.smallest[state] = (size, program)
         return True
+
+
+def _checked_ways(rule, ways):
+    """A tuple of ways that are right for a rule."""
+    rows = tuple(list(ways))
+    for row in rows:
+        _check_way(rule[0], row)
+    return rows
+
+
+def _joined(ways, others):
+    """The ways, and those of the others that they lack."""
+    rows = list(ways)
+    for row in others:
+        if row not in rows:
+            rows.append(row)
+    return rows
 
 
 def _check_way(places, row):

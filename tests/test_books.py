@@ -159,6 +159,30 @@ class Joining(unittest.TestCase):
         other["fun"] = ()
         self.assertEqual(one["fun"], (FUN_WAY,))
 
+    def test_books_of_another_table(self):
+        made = Table(Stock({"i": "", "n": ""}))
+        made["one"] = rule(whole=("i",))
+        made["odd"] = rule(whole=("i",))
+        made["fun"] = rule(whole=("i",))
+        row, other = book(), Book(made)
+        before = row.lines()
+        row += other
+        self.assertEqual(row.lines(), before)
+        other["one"] = [parse_way("told: -")]
+        other["odd"] = [parse_way("told: -")]
+        with self.assertRaises(UnknownSign) as caught:
+            row += other
+        self.assertEqual(caught.exception.sign, "odd")
+        self.assertEqual(row.lines(), before)
+        other["odd"] = ()
+        other["fun"] = [parse_way("told: -")]
+        with self.assertRaises(BadWay):
+            row += other
+        self.assertEqual(row.lines(), before)
+        other["fun"] = ()
+        row += other
+        self.assertEqual(row["one"], (parse_way("found: -"), parse_way("told: -")))
+
     def test_double_ways_of_its_own_stay(self):
         row = empty_book()
         row["fun"] = [FUN_WAY, FUN_WAY]
